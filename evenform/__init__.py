@@ -1,0 +1,1 @@
+"""Evenform: polynomials that exchanging unknowns leaves as they are."""

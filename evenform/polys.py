@@ -1,0 +1,81 @@
+"""Polynomials: lists of terms (powers, number), no powers twice, no number 0, greater powers first."""
+
+from evenform.errors import BadCount, BadPowers, TooGreat
+
+MOST_UNKNOWNS = 4
+MOST_TOGETHER = 8
+
+
+# No refusal writes out what was handed in: Python refuses to write numbers of
+# several thousand figures, with an error that is none of ours.
+def refuse_bad_count(many):
+    if many < 1 or many > MOST_UNKNOWNS:
+        raise BadCount("there are 1 to 4 unknowns")
+
+
+def refuse_bad_powers(many, powers):
+    if len(powers) != many:
+        raise BadPowers("there is one power for each unknown")
+    if min(powers) < 0:
+        raise BadPowers("no power is below 0")
+    if sum(powers) > MOST_TOGETHER:
+        raise BadPowers("powers are together at most 8")
+
+
+def gathered(terms):
+    numbers = {}
+    for powers, number in terms:
+        numbers[powers] = numbers.get(powers, 0) + number
+    return [(powers, numbers[powers]) for powers in sorted(numbers, reverse=True) if numbers[powers] != 0]
+
+
+def made(many, terms):
+    refuse_bad_count(many)
+    for powers, number in terms:
+        refuse_bad_powers(many, powers)
+    return gathered(terms)
+
+
+def plus(one, other):
+    return gathered(one + other)
+
+
+def less(one, other):
+    return gathered(one + [(powers, -number) for powers, number in other])
+
+
+# Refuses here, term by term, and not by the product's weight: terms that are
+# too great may cancel out in the product, and are refused all the same.
+def multiplied(term, factor):
+    powers = tuple([one + other for one, other in zip(term[0], factor[0])])
+    if sum(powers) > MOST_TOGETHER:
+        raise TooGreat("powers of a product are together at most 8")
+    return (powers, term[1] * factor[1])
+
+
+def times(one, other):
+    terms = []
+    for term in one:
+        for factor in other:
+            terms.append(multiplied(term, factor))
+    return gathered(terms)
+
+
+def value_of(powers, point):
+    value = 1
+    for power, number in zip(powers, point):
+        for again in range(power):
+            value = value * number
+    return value
+
+
+def at(some, point):
+    return sum([number * value_of(powers, point) for powers, number in some])
+
+
+def swapped(powers, place):
+    return powers[:place] + (powers[place + 1], powers[place]) + powers[place + 2:]
+
+
+def exchanged(some, place):
+    return gathered([(swapped(powers, place), number) for powers, number in some])
