@@ -44,21 +44,28 @@ def less(one, other):
     return gathered(one + [(powers, -number) for powers, number in other])
 
 
-# Refuses here, term by term, and not by the product's weight: terms that are
-# too great may cancel out in the product, and are refused all the same.
-def multiplied(term, factor):
-    powers = tuple([one + other for one, other in zip(term[0], factor[0])])
-    if sum(powers) > MOST_TOGETHER:
+# Without a bound: what comes of a polynomial that lies beyond 8 is not refused
+# where no point says so.
+def multiplied(one, other):
+    terms = []
+    for powers, number in one:
+        for more, often in other:
+            terms.append((tuple([power + added for power, added in zip(powers, more)]), number * often))
+    return gathered(terms)
+
+
+# Asks the two and not their product: terms that are too great may cancel out in
+# the product, and are refused all the same.
+def refuse_too_great(one, other):
+    if one == [] or other == []:
+        return
+    if max([sum(powers) for powers, number in one]) + max([sum(powers) for powers, number in other]) > MOST_TOGETHER:
         raise TooGreat("powers of a product are together at most 8")
-    return (powers, term[1] * factor[1])
 
 
 def times(one, other):
-    terms = []
-    for term in one:
-        for factor in other:
-            terms.append(multiplied(term, factor))
-    return gathered(terms)
+    refuse_too_great(one, other)
+    return multiplied(one, other)
 
 
 def value_of(powers, point):

@@ -33,9 +33,15 @@ def count_from(row, least):
     return len([number for number in row if number >= least])
 
 
+# Refuses nothing: powers are turned here as they stand, with noughts behind the
+# row's end, and perhaps of a polynomial that lies beyond 8.
+def turned_over(row):
+    return tuple([count_from(row, place + 1) for place in range(max(row, default=0))])
+
+
 def turned(row):
     refuse_bad_row(row)
-    return tuple([count_from(row, place + 1) for place in range(max(row, default=0))])
+    return turned_over(row)
 
 
 # A slice beyond a row's end is the whole row, as if noughts went on behind it.

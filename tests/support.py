@@ -1,10 +1,21 @@
-"""What several tests need: point 2's check, and samples."""
+"""What several tests need: checks of what is told and refused, samples, and reckoning of the tests' own."""
 
 import copy
+import functools
+import itertools
+import unittest
+
+from evenform.errors import BadCount, BadRow, Uneven
 
 SIXTY = int("9" * 60)
 # More figures than Python writes out, as a number may have that was told.
 ENDLESS = 10 ** 5000
+
+BAD_ROWS = [(0,), (1, 0), (0, 1), (3, 0, 1), (2, 2, 0), (-1,), (2, -1), (-1, -2), (9, -1), (-SIXTY,),
+            (1, 2), (2, 1, 2), (3, 1, 1, 2), (1, 1, 1, 1, 2),
+            (9,), (8, 1), (5, 4), (3, 3, 3), (1,) * 9, (1,) * 500, (SIXTY,), (ENDLESS,), (-ENDLESS,), (1, ENDLESS)]
+BAD_COUNTS = [0, 5, -1, 6, -4, 500, SIXTY, -SIXTY, ENDLESS, -ENDLESS]
+NUMBERS = [1, -1, 2, SIXTY, -3, -SIXTY, 24, 10 ** 59, -60, 1 - 10 ** 59, 5]
 
 
 def changed(value):
@@ -35,3 +46,232 @@ def check_refused(case, refusal, function, *handed):
         function(*handed)
     case.assertEqual(caught.exception.__class__, refusal)
     case.assertEqual(handed, before)
+
+
+@functools.cache
+def found_powers(many, most):
+    found = itertools.product(range(most, -1, -1), repeat=many)
+    return tuple(powers for powers in found if sum(powers) <= most)
+
+
+def all_powers(many, most):
+    """All powers of so many unknowns with at most so much together, greater ones first."""
+    return list(found_powers(many, most))
+
+
+def one_of(many):
+    return [((0,) * many, 1)]
+
+
+def all_rows(weight):
+    """All rows of a weight, greater ones first, found among all ways to cut the weight into parts."""
+    if weight == 0:
+        return [()]
+    found = []
+    for cuts in itertools.product((True, False), repeat=weight - 1):
+        parts = [1]
+        for cut in cuts:
+            if cut:
+                parts.append(1)
+            else:
+                parts[-1] += 1
+        if parts == sorted(parts, reverse=True):
+            found.append(tuple(parts))
+    return sorted(found, reverse=True)
+
+
+def rows_within(many):
+    """All rows of weights 0 to 8 with at most so many numbers."""
+    return [row for weight in range(9) for row in all_rows(weight) if len(row) <= many]
+
+
+def row_of(powers):
+    return tuple(sorted((power for power in powers if power != 0), reverse=True))
+
+
+def even(many, numbers):
+    """The even polynomial that has the orders of each row as often as a dict tells."""
+    return [(powers, numbers[row_of(powers)]) for powers in all_powers(many, 8) if numbers.get(row_of(powers), 0) != 0]
+
+
+def row_numbers(many, weights, seed):
+    """How often each row of these weights is taken: some not at all, some with sixty figures."""
+    numbers = {}
+    for row in rows_within(many):
+        seed = (seed * 137 + 71) % 1009
+        if sum(row) in weights and seed % 4 != 0:
+            numbers[row] = NUMBERS[seed % len(NUMBERS)]
+    return numbers
+
+
+def even_samples(many):
+    """0, numbers alone, the exchange sum of each row, sums of each weight, and sums of several weights."""
+    taken = [{}, {(): 1}, {(): -SIXTY}, {(): ENDLESS}] + [{row: 1} for row in rows_within(many)]
+    taken += [row_numbers(many, (weight,), seed) for weight in range(9) for seed in (1, 5)]
+    taken += [row_numbers(many, range(9), seed) for seed in (2, 3)] + [row_numbers(many, (0, 3, 4, 8), 7)]
+    return [even(many, numbers) for numbers in taken]
+
+
+def swapped(powers, place):
+    numbers = list(powers)
+    numbers[place], numbers[place + 1] = powers[place + 1], powers[place]
+    return tuple(numbers)
+
+
+def due_uneven(many, some):
+    """Point 9's words, over all powers there are."""
+    numbers = dict(some)
+    for place in range(many - 1):
+        for powers in all_powers(many, 8):
+            if numbers.get(powers, 0) != numbers.get(swapped(powers, place), 0):
+                return (place, powers)
+    return None
+
+
+def in_order(numbers):
+    return [(key, numbers[key]) for key in sorted(numbers, reverse=True) if numbers[key] != 0]
+
+
+def altered(some, powers, number):
+    """A polynomial in which powers have another number, perhaps 0."""
+    return in_order({**dict(some), powers: number})
+
+
+def uneven_samples(many):
+    """Polynomials that differ from an even one at one term, and such as differ at many."""
+    base = even(many, row_numbers(many, (1, 2, 5), 4))
+    found = [[(powers, 1)] for powers in all_powers(many, 3)] + [[(powers, -SIXTY)] for powers in all_powers(many, 2)]
+    found += [altered(base, powers, dict(base).get(powers, 0) + 1) for powers in all_powers(many, 5)]
+    found += [altered(base, powers, 0) for powers in dict(base)]
+    found += [[(powers, 1) for powers in all_powers(many, 4)[start::3]] for start in range(3)]
+    return [some for some in found if due_uneven(many, some) is not None]
+
+
+def multiply(one, other, join):
+    """Every key of the one joined with every key of the other, their numbers multiplied, like keys added up."""
+    total = {}
+    for (left, often), (right, more) in itertools.product(one, other):
+        key = join(left, right)
+        total[key] = total.get(key, 0) + often * more
+    return in_order(total)
+
+
+def added_powers(one, other):
+    return tuple(a + b for a, b in zip(one, other))
+
+
+def joined_rows(one, other):
+    return tuple(sorted(one + other, reverse=True))
+
+
+def single_sum(kind, many, number):
+    """The elementary, whole or power sum of one number, found among all powers."""
+    allowed = {"elementary": lambda powers: max(powers) == 1,
+               "whole": lambda powers: True,
+               "power": lambda powers: max(powers) == number}[kind]
+    return [(powers, 1) for powers in all_powers(many, number) if sum(powers) == number and allowed(powers)]
+
+
+@functools.cache
+def found_sum(kind, many, row):
+    result = one_of(many)
+    for number in row:
+        result = multiply(result, single_sum(kind, many, number), added_powers)
+    return tuple(result)
+
+
+def row_sum(kind, many, row):
+    """The sum of a row: the product of those of its numbers."""
+    return list(found_sum(kind, many, row))
+
+
+def multiplied_out(kind, many, telling):
+    total = {}
+    for row, often in telling:
+        for powers, number in row_sum(kind, many, row):
+            total[powers] = total.get(powers, 0) + often * number
+    return in_order(total)
+
+
+def added_up(one, other):
+    """The sum of two tellings or polynomials."""
+    keys = set(dict(one)) | set(dict(other))
+    return in_order({key: dict(one).get(key, 0) + dict(other).get(key, 0) for key in keys})
+
+
+def check_sum_refusals(case, function):
+    """Points 7 and 10, for a function of n and a row: BadRow, then BadCount; what is asked behind is as before."""
+    asked = [(many, row) for many in (1, 2, 3, 4) for row in ((), (1,), (3,))] + [(2, (2, 1)), (4, (2, 1, 1))]
+    before = [function(many, row) for many, row in asked]
+    for bad in BAD_ROWS:
+        for many in [1, 2, 3, 4] + BAD_COUNTS:
+            check_refused(case, BadRow, function, many, bad)
+    for many in BAD_COUNTS:
+        for row in rows_within(8):
+            check_refused(case, BadCount, function, many, row)
+    case.assertEqual([function(many, row) for many, row in asked], before)
+
+
+def check_count_refusals(case, function):
+    """Point 10, for a function of n and a polynomial: BadCount, whatever else is handed in."""
+    for bad in BAD_COUNTS:
+        check_refused(case, BadCount, function, bad, [])
+        for many in (1, 2, 3, 4):
+            for some in even_samples(many)[::9] + uneven_samples(many)[::9]:
+                check_refused(case, BadCount, function, bad, some)
+
+
+def check_uneven_refusals(case, function):
+    """Point 10, for a function that tells a telling: BadCount, then Uneven; what is asked behind is as before."""
+    asked = [(many, some) for many in (1, 2, 3, 4) for some in even_samples(many)[::11]]
+    before = [function(many, some) for many, some in asked]
+    check_count_refusals(case, function)
+    for many in (2, 3, 4):
+        for some in uneven_samples(many):
+            kept = list(some)
+            with case.assertRaises(Uneven) as caught:
+                function(many, some)
+            case.assertEqual(caught.exception.__class__, Uneven)
+            case.assertEqual((caught.exception.place, caught.exception.powers), due_uneven(many, some))
+            case.assertIs(type(caught.exception.place), int)
+            case.assertIs(type(caught.exception.powers), tuple)
+            case.assertEqual(some, kept)
+    case.assertEqual([function(many, some) for many, some in asked], before)
+
+
+class Case(unittest.TestCase):
+    def assert_form(self, many, some):
+        """Point 5's form of a polynomial."""
+        self.assertIsInstance(some, list)
+        for term in some:
+            self.assertIsInstance(term, tuple)
+            powers, number = term
+            self.assertIsInstance(powers, tuple)
+            self.assertEqual(len(powers), many)
+            self.assertTrue(all(type(power) is int and power >= 0 for power in powers))
+            self.assertLessEqual(sum(powers), 8)
+            self.assertIs(type(number), int)
+            self.assertNotEqual(number, 0)
+        for (powers, _), (later, _) in zip(some, some[1:]):
+            self.assertGreater(powers, later)
+
+    def assert_rows_fall(self, told):
+        """Point 10's form of a telling, but for its numbers: rows, none twice, greater ones first."""
+        self.assertIsInstance(told, list)
+        for pair in told:
+            self.assertIsInstance(pair, tuple)
+            row, _ = pair
+            self.assertIsInstance(row, tuple)
+            self.assertIn(row, all_rows(sum(row)))
+        for (row, _), (later, _) in zip(told, told[1:]):
+            self.assertGreater(row, later)
+
+    def assert_telling(self, told):
+        self.assert_rows_fall(told)
+        for _, number in told:
+            self.assertIs(type(number), int)
+            self.assertNotEqual(number, 0)
+
+    def assert_no_number_above(self, many, told):
+        for row, _ in told:
+            self.assertLessEqual(max(row, default=0), many)

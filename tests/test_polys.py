@@ -5,12 +5,7 @@ import unittest
 from evenform import polys
 from evenform.errors import BadCount, BadPowers, TooGreat
 from evenform.polys import at, exchanged, less, made, plus, times
-from support import ENDLESS, SIXTY, changed, check_own, check_refused
-
-
-def all_powers(many, most):
-    """All powers of so many unknowns with at most so much together, greater ones first."""
-    return [powers for powers in itertools.product(range(most, -1, -1), repeat=many) if sum(powers) <= most]
+from support import ENDLESS, SIXTY, Case, all_powers, changed, check_own, check_refused, one_of
 
 
 def sample(many, most, seed):
@@ -29,27 +24,6 @@ def samples(many):
 
 def points(many):
     return [list(point) for point in itertools.product((-3, 0, 1, 2), repeat=many)] + [[SIXTY, -SIXTY, 7, 0][:many]]
-
-
-def one_of(many):
-    return [((0,) * many, 1)]
-
-
-class Case(unittest.TestCase):
-    def assert_form(self, many, some):
-        """Point 5's form of a polynomial."""
-        self.assertIsInstance(some, list)
-        for term in some:
-            self.assertIsInstance(term, tuple)
-            powers, number = term
-            self.assertIsInstance(powers, tuple)
-            self.assertEqual(len(powers), many)
-            self.assertTrue(all(type(power) is int and power >= 0 for power in powers))
-            self.assertLessEqual(sum(powers), 8)
-            self.assertIs(type(number), int)
-            self.assertNotEqual(number, 0)
-        for (powers, _), (later, _) in zip(some, some[1:]):
-            self.assertGreater(powers, later)
 
 
 class Interface(unittest.TestCase):

@@ -5,28 +5,7 @@ import unittest
 from evenform import rows as module
 from evenform.errors import BadRow, UnlikeWeights
 from evenform.rows import rows, steps, turned
-from support import ENDLESS, SIXTY, check_own, check_refused
-
-BAD = [(0,), (1, 0), (0, 1), (3, 0, 1), (2, 2, 0), (-1,), (2, -1), (-1, -2), (9, -1), (-SIXTY,),
-       (1, 2), (2, 1, 2), (3, 1, 1, 2), (1, 1, 1, 1, 2),
-       (9,), (8, 1), (5, 4), (3, 3, 3), (1,) * 9, (1,) * 500, (SIXTY,), (ENDLESS,), (-ENDLESS,), (1, ENDLESS)]
-
-
-def all_rows(weight):
-    """All rows of a weight, greater ones first, found among all ways to cut the weight into parts."""
-    if weight == 0:
-        return [()]
-    found = []
-    for cuts in itertools.product((True, False), repeat=weight - 1):
-        parts = [1]
-        for cut in cuts:
-            if cut:
-                parts.append(1)
-            else:
-                parts[-1] += 1
-        if parts == sorted(parts, reverse=True):
-            found.append(tuple(parts))
-    return sorted(found, reverse=True)
+from support import BAD_ROWS, ENDLESS, SIXTY, all_rows, check_own, check_refused
 
 
 def moves(row):
@@ -124,7 +103,7 @@ class Turned(unittest.TestCase):
                 self.assertEqual(sum(told), weight)
 
     def test_point_7_bad_row(self):
-        for bad in BAD:
+        for bad in BAD_ROWS:
             check_refused(self, BadRow, turned, bad)
 
     def test_point_2_what_was_handed_in_and_told(self):
@@ -132,7 +111,7 @@ class Turned(unittest.TestCase):
         check_own(self, turned, ())
 
     def test_point_4_a_refusal_changes_nothing(self):
-        for bad in BAD:
+        for bad in BAD_ROWS:
             check_refused(self, BadRow, turned, bad)
             self.assertEqual(turned((4, 2, 1)), (3, 2, 1, 1))
             self.assertEqual(rows(2, 2), [(2,), (1, 1)])
@@ -176,11 +155,11 @@ class Steps(unittest.TestCase):
                 check_refused(self, UnlikeWeights, steps, one, other)
 
     def test_point_8_bad_row_ahead_of_all(self):
-        for bad in BAD:
+        for bad in BAD_ROWS:
             for row in ((), (1,), (2, 1), (8,), (1,) * 8):
                 check_refused(self, BadRow, steps, bad, row)
                 check_refused(self, BadRow, steps, row, bad)
-            for another in BAD:
+            for another in BAD_ROWS:
                 check_refused(self, BadRow, steps, bad, another)
 
     def test_point_2_what_was_handed_in_and_told(self):
@@ -191,7 +170,7 @@ class Steps(unittest.TestCase):
 
     def test_point_4_a_refusal_changes_nothing(self):
         due = steps((3, 1), (1, 1, 1, 1))
-        for bad in BAD:
+        for bad in BAD_ROWS:
             check_refused(self, BadRow, steps, (3, 1), bad)
             check_refused(self, UnlikeWeights, steps, (3, 1), (3,))
             self.assertEqual(steps((3, 1), (1, 1, 1, 1)), due)
