@@ -1,5 +1,6 @@
 """What several tests need: checks of what is told and refused, samples, and reckoning of the tests' own."""
 
+import collections
 import copy
 import functools
 import itertools
@@ -83,6 +84,10 @@ def all_rows(weight):
 def rows_within(many):
     """All rows of weights 0 to 8 with at most so many numbers."""
     return [row for weight in range(9) for row in all_rows(weight) if len(row) <= many]
+
+
+def turned_row(row):
+    return tuple(len([number for number in row if number > place]) for place in range(max(row, default=0)))
 
 
 def row_of(powers):
@@ -173,7 +178,32 @@ def single_sum(kind, many, number):
 
 
 @functools.cache
+def found_fillings(many, row):
+    if many == 0:
+        return ((),) if row == () else ()
+    found = []
+    for lengths in itertools.product(*(range(after, number + 1) for number, after in zip(row, row[1:] + (0,)))):
+        for lines in found_fillings(many - 1, row_of(lengths)):
+            filled_up = lines + ((),) * (len(row) - len(lines))
+            found.append(tuple(line + (many - 1,) * (number - len(line)) for line, number in zip(filled_up, row)))
+    return tuple(sorted(found))
+
+
+def all_fillings(many, row):
+    """All fillings, from those by one number less: the greatest number stands at lines' ends, never beneath itself."""
+    return list(found_fillings(many, row))
+
+
+def sum_of_fillings(many, told):
+    """The sum over fillings of how often each number stands in them."""
+    return in_order(collections.Counter(tuple(sum(filling, ()).count(number) for number in range(many))
+                                        for filling in told))
+
+
+@functools.cache
 def found_sum(kind, many, row):
+    if kind == "filling":
+        return tuple(sum_of_fillings(many, all_fillings(many, row)))
     result = one_of(many)
     for number in row:
         result = multiply(result, single_sum(kind, many, number), added_powers)
@@ -181,7 +211,7 @@ def found_sum(kind, many, row):
 
 
 def row_sum(kind, many, row):
-    """The sum of a row: the product of those of its numbers."""
+    """The sum of a row: by fillings over all of them, else the product of those of its numbers."""
     return list(found_sum(kind, many, row))
 
 
@@ -221,6 +251,18 @@ def check_count_refusals(case, function):
                 check_refused(case, BadCount, function, bad, some)
 
 
+def check_uneven(case, due, function, *handed):
+    """Uneven is raised with its fields, and nothing handed in is changed."""
+    before = copy.deepcopy(handed)
+    with case.assertRaises(Uneven) as caught:
+        function(*handed)
+    case.assertEqual(caught.exception.__class__, Uneven)
+    case.assertEqual((caught.exception.place, caught.exception.powers), due)
+    case.assertIs(type(caught.exception.place), int)
+    case.assertIs(type(caught.exception.powers), tuple)
+    case.assertEqual(handed, before)
+
+
 def check_uneven_refusals(case, function):
     """Point 10, for a function that tells a telling: BadCount, then Uneven; what is asked behind is as before."""
     asked = [(many, some) for many in (1, 2, 3, 4) for some in even_samples(many)[::11]]
@@ -228,14 +270,7 @@ def check_uneven_refusals(case, function):
     check_count_refusals(case, function)
     for many in (2, 3, 4):
         for some in uneven_samples(many):
-            kept = list(some)
-            with case.assertRaises(Uneven) as caught:
-                function(many, some)
-            case.assertEqual(caught.exception.__class__, Uneven)
-            case.assertEqual((caught.exception.place, caught.exception.powers), due_uneven(many, some))
-            case.assertIs(type(caught.exception.place), int)
-            case.assertIs(type(caught.exception.powers), tuple)
-            case.assertEqual(some, kept)
+            check_uneven(case, due_uneven(many, some), function, many, some)
     case.assertEqual([function(many, some) for many, some in asked], before)
 
 
