@@ -54,8 +54,7 @@ def multiplied(one, other):
     return gathered(terms)
 
 
-# Asks the two and not their product: terms that are too great may cancel out in
-# the product, and are refused all the same.
+# Asks the two and not their product: what is refused need not be multiplied.
 def refuse_too_great(one, other):
     if one == [] or other == []:
         return

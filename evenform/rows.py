@@ -13,6 +13,11 @@ def refuse_bad_row(row):
         raise BadRow("a row's numbers are together at most 8")
 
 
+def refuse_bad_rows(telling):
+    for row, share in telling:
+        refuse_bad_row(row)
+
+
 def rows_up_to(top, weight, most):
     if weight == 0:
         return [()]

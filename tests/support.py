@@ -4,9 +4,16 @@ import collections
 import copy
 import functools
 import itertools
+import math
+import re
 import unittest
+from fractions import Fraction
 
 from evenform.errors import BadCount, BadRow, Uneven
+from evenform.exchanges import by_exchange
+from evenform.fillings import by_fillings
+from evenform.powers import by_power
+from evenform.products import by_elementary, by_whole
 
 SIXTY = int("9" * 60)
 # More figures than Python writes out, as a number may have that was told.
@@ -16,6 +23,9 @@ BAD_ROWS = [(0,), (1, 0), (0, 1), (3, 0, 1), (2, 2, 0), (-1,), (2, -1), (-1, -2)
             (1, 2), (2, 1, 2), (3, 1, 1, 2), (1, 1, 1, 1, 2),
             (9,), (8, 1), (5, 4), (3, 3, 3), (1,) * 9, (1,) * 500, (SIXTY,), (ENDLESS,), (-ENDLESS,), (1, ENDLESS)]
 BAD_COUNTS = [0, 5, -1, 6, -4, 500, SIXTY, -SIXTY, ENDLESS, -ENDLESS]
+KINDS = ["exchange", "elementary", "whole", "power", "filling"]
+BAD_KINDS = ["", " ", "exchang", "exchanges", "Exchange", "WHOLE", " whole", "whole ", "exchange whole", "fillings",
+             "powers", "by", "e", "0", "wholepower", "~"]
 NUMBERS = [1, -1, 2, SIXTY, -3, -SIXTY, 24, 10 ** 59, -60, 1 - 10 ** 59, 5]
 
 
@@ -117,6 +127,11 @@ def even_samples(many):
     return [even(many, numbers) for numbers in taken]
 
 
+def text_samples(many):
+    """The even samples whose numbers can be written out."""
+    return [some for some in even_samples(many) if ENDLESS not in dict(some).values()]
+
+
 def swapped(powers, place):
     numbers = list(powers)
     numbers[place], numbers[place + 1] = powers[place + 1], powers[place]
@@ -202,6 +217,8 @@ def sum_of_fillings(many, told):
 
 @functools.cache
 def found_sum(kind, many, row):
+    if kind == "exchange":
+        return tuple(even(many, {row: 1}))
     if kind == "filling":
         return tuple(sum_of_fillings(many, all_fillings(many, row)))
     result = one_of(many)
@@ -211,7 +228,7 @@ def found_sum(kind, many, row):
 
 
 def row_sum(kind, many, row):
-    """The sum of a row: by fillings over all of them, else the product of those of its numbers."""
+    """The sum of a row: over its orders by exchange, over all fillings, else the product of those of its numbers."""
     return list(found_sum(kind, many, row))
 
 
@@ -221,6 +238,80 @@ def multiplied_out(kind, many, telling):
         for powers, number in row_sum(kind, many, row):
             total[powers] = total.get(powers, 0) + often * number
     return in_order(total)
+
+
+def with_fractions(told):
+    """A shared telling with Python's own fractions."""
+    return [(row, Fraction(*fraction)) for row, fraction in told]
+
+
+def shared(telling):
+    """Whole numbers, or Python's own fractions, as shares."""
+    return [(row, (Fraction(number).numerator, Fraction(number).denominator)) for row, number in telling]
+
+
+def told_by(kind, many, some):
+    """What the program's own function for a kind tells, with shares."""
+    if kind == "power":
+        return by_power(many, some)
+    tellers = {"exchange": by_exchange, "elementary": by_elementary, "whole": by_whole, "filling": by_fillings}
+    return shared(tellers[kind](many, some))
+
+
+def lets_in(kind, many, row):
+    """Point 18: which rows a kind lets in."""
+    return (len(row) if kind in ("exchange", "filling") else max(row, default=0)) <= many
+
+
+def joined_with_signs(parts):
+    """Points 19 and 20: parts (number, text without sign) with the numbers' signs ahead."""
+    if parts == []:
+        return "0"
+    text = " ".join(("- " if number < 0 else "+ ") + part for number, part in parts)
+    return text.removeprefix("+ ") if text[0] == "+" else "-" + text.removeprefix("- ")
+
+
+def text_form(many):
+    unknowns = "".join(f"(?:{letter}(?:\\^[2-8])?)?" for letter in "xyzw"[:many])
+    term = f"(?=[0-9a-z])(?:[1-9][0-9]{{0,59}})?{unknowns}"
+    return re.compile(f"0|-?{term}(?: [+-] {term})*")
+
+
+TEXT_FORMS = {many: text_form(many) for many in (1, 2, 3, 4)}
+
+
+def polynomial_of(many, line):
+    """Point 19's words: the polynomial of a text, or None where it is no text."""
+    if TEXT_FORMS[many].fullmatch(line) is None:
+        return None
+    total = {}
+    for term in line.replace(" - ", " + -").split(" + "):
+        sign, count, unknowns = re.fullmatch("(-?)([0-9]*)(.*)", term).groups()
+        places = dict(re.findall(r"([xyzw])\^?([2-8]?)", unknowns))
+        powers = tuple(int(places[letter] or 1) if letter in places else 0 for letter in "xyzw"[:many])
+        if sum(powers) > 8:
+            return None
+        total[powers] = total.get(powers, 0) + int(sign + (count or "1"))
+    return in_order(total)
+
+
+def written(some):
+    """A polynomial's text."""
+    parts = []
+    for powers, number in some:
+        unknowns = "".join(letter + f"^{power}" * (power > 1) for letter, power in zip("xyzw", powers) if power > 0)
+        count = "" if abs(number) == 1 and unknowns else f"{abs(number)}"
+        parts.append((number, count + unknowns))
+    return joined_with_signs(parts)
+
+
+def written_telling(telling):
+    """A shared telling's text."""
+    parts = []
+    for row, (top, bottom) in telling:
+        share = "" if (abs(top), bottom) == (1, 1) else f"{abs(top)}" if bottom == 1 else f"{abs(top)}/{bottom}"
+        parts.append((top, share + "[" + ",".join(map(str, row)) + "]"))
+    return joined_with_signs(parts)
 
 
 def added_up(one, other):
@@ -306,6 +397,17 @@ class Case(unittest.TestCase):
         for _, number in told:
             self.assertIs(type(number), int)
             self.assertNotEqual(number, 0)
+
+    def assert_fractions(self, told):
+        """Point 13's form of fractions."""
+        for _, fraction in told:
+            self.assertIsInstance(fraction, tuple)
+            top, bottom = fraction
+            self.assertIs(type(top), int)
+            self.assertIs(type(bottom), int)
+            self.assertNotEqual(top, 0)
+            self.assertGreater(bottom, 0)
+            self.assertEqual(math.gcd(top, bottom), 1)
 
     def assert_no_number_above(self, many, told):
         for row, _ in told:

@@ -119,6 +119,10 @@ class Language(unittest.TestCase):
             self.assertFalse(isinstance(node.value, str) and "%" in node.value, place)
         for place, node in nodes(ast.Assign):
             self.assertEqual(len(node.targets), 1, place)
+            self.assertNotIsInstance(node.targets[0], (ast.Tuple, ast.List), place)
+        for place, node in nodes(ast.FormattedValue):
+            self.assertIsInstance(node.value, ast.Name, place)
+            self.assertIsNone(node.format_spec, place)
         for place, node in nodes((ast.For, ast.While)):
             self.assertEqual(node.orelse, [], place)
         for place, node in nodes(ast.Try):

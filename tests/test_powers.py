@@ -1,14 +1,12 @@
 import inspect
 import itertools
-import math
 import unittest
-from fractions import Fraction
 
 from evenform import powers as module
 from evenform.powers import by_power, power_sum
 from support import (ENDLESS, SIXTY, Case, added_powers, added_up, check_own, check_sum_refusals, check_uneven_refusals,
                      even, even_samples, joined_rows, multiplied_out, multiply, one_of, row_numbers, row_sum,
-                     rows_within)
+                     rows_within, with_fractions)
 
 
 class Interface(unittest.TestCase):
@@ -46,22 +44,7 @@ class Sums(Case):
                 check_own(self, power_sum, many, row)
 
 
-def with_fractions(told):
-    return [(row, Fraction(*fraction)) for row, fraction in told]
-
-
 class ByPower(Case):
-    def assert_fractions(self, told):
-        """Point 13's form of fractions."""
-        for _, fraction in told:
-            self.assertIsInstance(fraction, tuple)
-            top, bottom = fraction
-            self.assertIs(type(top), int)
-            self.assertIs(type(bottom), int)
-            self.assertNotEqual(top, 0)
-            self.assertGreater(bottom, 0)
-            self.assertEqual(math.gcd(top, bottom), 1)
-
     def check_telling(self, many, some):
         told = by_power(many, some)
         self.assert_rows_fall(told)
